@@ -1,0 +1,1 @@
+"""Townlines: records written as lines by forms, and read back."""
