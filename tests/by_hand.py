@@ -3,6 +3,8 @@
 import itertools
 
 from townlines.errors import BadItem, BadName, BadSigns, TownError
+from townlines.forms import Form
+from townlines.items import Field, Mark, Maybe
 from townlines.kinds import Kind
 from townlines.signs import Signs
 
@@ -12,7 +14,9 @@ ALL_SIGNS = "".join(chr(code) for code in range(32, 127) if code != 37)
 ROWS = [[], (), ["a"], ("a",), ["a", "b"], [["a"], ("b", {"c": 1})], [Signs("a")]]
 DICTS = [{}, {"a": 1}, {1: ["a"]}, {"a": {"b": None}}]
 ERRORS = [TownError(), BadSigns(), BadName("a"), BadItem(3)]
-PLAIN_OBJECTS = [None, True, False, *ROWS, *DICTS, *ERRORS]
+FIELD, MARK = Field("a", Kind.run("a")), Mark("a")
+MAYBE, FORM = Maybe([FIELD, MARK]), Form([[FIELD, MARK]])
+PLAIN_OBJECTS = [None, True, False, *ROWS, *DICTS, *ERRORS, FIELD, MARK, MAYBE, FORM, [FIELD], (MARK, MAYBE)]
 NUMBERS = [0, 1, -1, 2, 33, 97, 10 ** 30]
 
 # Strings of which at least one character is no sign.

@@ -3,7 +3,7 @@
 import operator
 import unittest
 
-from by_hand import ALL_SIGNS, NO_SIGN_TEXTS, NUMBERS, PLAIN_OBJECTS
+from by_hand import ALL_SIGNS, FIELD, FORM, MARK, MAYBE, NO_SIGN_TEXTS, NUMBERS, PLAIN_OBJECTS
 from townlines.errors import BadSigns
 from townlines.kinds import Kind
 from townlines.signs import Signs
@@ -141,8 +141,9 @@ class Operators(unittest.TestCase):
         self.assertEqual([one.spelled(), two.spelled()], ["abc", "bcd"])
 
     def test_other_operands(self):
+        kinds = [Kind.run("a"), Kind.words(["a", "b"]), Kind.run(ALL_SIGNS, 0, None)]
         for name, (sign, _) in OPERATORS.items():
-            for thing in [*PLAIN_OBJECTS, *NUMBERS, *NO_SIGN_TEXTS]:
+            for thing in [*PLAIN_OBJECTS, *NUMBERS, *NO_SIGN_TEXTS, *kinds]:
                 for signs in [Signs("a"), Signs(), Signs(ALL_SIGNS)]:
                     with self.subTest(name, thing=thing):
                         with self.assertRaises(BadSigns):
@@ -175,8 +176,13 @@ class Operators(unittest.TestCase):
         self.assertEqual(text, Signs("abcd"))
         self.assertEqual(other.spelled(), "cd")
 
+    def test_union_in_place_of_another_object(self):
+        for thing in [FIELD, MARK, MAYBE, FORM, Kind.run("a")]:
+            with self.subTest(thing), self.assertRaises(BadSigns):
+                thing |= Signs("a")
+
     def test_union_in_place_with_other_operands(self):
-        for thing in [*PLAIN_OBJECTS, *NUMBERS, *NO_SIGN_TEXTS]:
+        for thing in [*PLAIN_OBJECTS, *NUMBERS, *NO_SIGN_TEXTS, Kind.run("a")]:
             held = old = Signs("ab")
             with self.subTest(thing), self.assertRaises(BadSigns):
                 held |= thing

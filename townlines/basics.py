@@ -1,4 +1,6 @@
-"""What several modules ask about integers, rows and the order of texts."""
+"""What several modules ask about integers, rows, names and the order of texts."""
+
+LONGEST_NAME = 12
 
 
 def is_integer(thing):
@@ -14,6 +16,13 @@ def is_integer_within(thing, low, high):
 def is_row(thing):
     """Tell whether `thing` is a list or a tuple."""
     return isinstance(thing, (list, tuple))
+
+
+def is_name(thing):
+    """Tell whether `thing` is a name: a string of 1 to 12 letters from a to z."""
+    if not isinstance(thing, str) or not 1 <= len(thing) <= LONGEST_NAME:
+        return False
+    return all(["a" <= letter <= "z" for letter in thing])
 
 
 def text_order(text):

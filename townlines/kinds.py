@@ -1,9 +1,9 @@
 """Kinds of words: which words a field may hold."""
 
 from townlines.basics import is_integer_within, is_row, text_order
-from townlines.errors import BadKind, BadNumber
+from townlines.errors import BadKind, BadNumber, BadSigns
 from townlines.nets import chained, place_count, run_net, side_by_side, takes
-from townlines.signs import is_sign_text, is_signs, signs_of
+from townlines.signs import Signs, is_sign_text, is_signs, signs_of
 from townlines.tallies import count_texts
 
 MOST_ALTERNATIVES = 20
@@ -49,6 +49,9 @@ class Kind:
         return Kind([first + second for first in self.rows for second in other.rows])
 
     def __or__(self, other):
+        # A Signs, on either side, is joined with signs only.
+        if isinstance(other, Signs):
+            raise BadSigns()
         return Kind(self.rows + other.rows)
 
     def __mul__(self, other):

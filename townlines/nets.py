@@ -1,4 +1,4 @@
-"""Places and the ways between them, as kinds have them.
+"""Places and the ways between them, as kinds, items and forms have them.
 
 A set of places is held as an integer, because sets of places are joined and
 compared very often: bit 0 stands for the place -1 (the beginning, before the
@@ -7,6 +7,8 @@ first character), and bit 1 + p for the place p.
 
 # The set that holds the place -1 only.
 START = 1
+
+FEED = "\n"
 
 
 class Net:
@@ -56,6 +58,17 @@ def run_net(signs, least, most):
     return Net([signs] * count, follow, exits)
 
 
+def text_net(text):
+    """Return the net with one walk, which passes a place for each character of `text`."""
+    count = len(text)
+    return Net(list(text), [1 << (1 + at) for at in range(count)] + [0], 1 << count)
+
+
+def or_nothing(net):
+    """Return the net whose walks are those of `net` and the one that passes nothing."""
+    return Net(net.chars, net.follow, net.exits | START)
+
+
 def renumbered(places, shift):
     """Return a set of places with each number raised by `shift`; -1 stays -1."""
     return ((places >> 1) << (1 + shift)) | (places & START)
@@ -93,6 +106,40 @@ def side_by_side(nets):
     return Net(chars, [first] + follow, exits)
 
 
+def line_added(above, line):
+    """Return the net of the lines above and one line more, which begins with a place for its line feed."""
+    shift = len(above.chars) + 1
+    feed = 1 << shift
+    inside = renumbered(line.follow[0], shift)
+    follow = [ways | feed if (above.exits >> at) & 1 else ways for at, ways in enumerate(above.follow)]
+    # No line feed is written where nothing stands above; then the walk begins in the line itself.
+    follow[0] = above.follow[0] | (inside if above.exits & START else 0)
+    follow = follow + [inside] + [renumbered(ways, shift) for ways in line.follow[1:]]
+    # The exits above remain exits only if this line can be left out.
+    earlier = above.exits if line.exits & START else 0
+    exits = renumbered(line.exits & ~START, shift) | earlier
+    return Net(above.chars + [FEED] + line.chars, follow, exits)
+
+
+def under_each_other(nets):
+    """Return the net of lines, each of which is left out with its line feed if nothing of it is passed."""
+    whole = nets[0]
+    for net in nets[1:]:
+        whole = line_added(whole, net)
+    return whole
+
+
+def places_in(stand):
+    """Return the places of a set as an ascending list."""
+    found = []
+    rest = stand
+    while rest:
+        lowest = rest & -rest
+        found.append(lowest.bit_length() - 2)
+        rest = rest ^ lowest
+    return found
+
+
 def places_after(net, stand):
     """Return the set of the places that can directly follow some place of the set `stand`."""
     found = 0
@@ -101,6 +148,15 @@ def places_after(net, stand):
         lowest = rest & -rest
         found = found | net.follow[lowest.bit_length() - 1]
         rest = rest ^ lowest
+    return found
+
+
+def places_before(net, goal):
+    """Return the set of the places that some place of the set `goal` can directly follow."""
+    found = 0
+    for at, ways in enumerate(net.follow):
+        if ways & goal:
+            found = found | (1 << at)
     return found
 
 
@@ -117,3 +173,17 @@ def stand_after(net, text):
 def takes(net, text):
     """Tell whether some walk of the net passes one place for each character of `text`."""
     return (stand_after(net, text) & net.exits) != 0
+
+
+def whole_walk_stands(net, text):
+    """Return, for each number of characters, the set of the places at which walks that pass `text` stand.
+
+    Only the walks that pass the whole text, up to its end, count.
+    """
+    stands = [START]
+    for char in text:
+        stands.append(places_after(net, stands[-1]) & net.stands_for.get(char, 0))
+    stands[-1] = stands[-1] & net.exits
+    for at in reversed(range(len(text))):
+        stands[at] = stands[at] & places_before(net, stands[at + 1])
+    return stands
