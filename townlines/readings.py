@@ -82,17 +82,21 @@ def owner_moves(form, stands):
     occurs here some reading can be completed.
     """
     found = []
+    # The same stands occur again and again in a long text.
+    ways = {}
     newest = list(first_stand(stands))
     for allowed in stands[1:]:
-        moves = {stand: moves_from(form, stand, allowed) for stand in newest}
+        for stand in newest:
+            if stand not in ways:
+                ways[stand] = places_after(form.net, stand)
+        moves = {stand: parted_by_owners(form, ways[stand] & allowed) for stand in newest}
         newest = list({target: True for rows in moves.values() for owner, target in rows})
         found.append(moves)
     return found
 
 
-def moves_from(form, stand, allowed):
-    """Return the tuples (owner, next stand) from a stand to the places of the set `allowed`."""
-    ways = places_after(form.net, stand) & allowed
+def parted_by_owners(form, ways):
+    """Return tuples (owner, places of this owner) of the places of the set `ways`."""
     return [(owner, ways & places) for owner, places in form.owner_sets if ways & places]
 
 
