@@ -1,6 +1,7 @@
 """Rules of the language subset that are quickly checked: files, imports, sizes, characters, words."""
 
 import ast
+import builtins
 import pathlib
 import re
 import unittest
@@ -10,6 +11,9 @@ FILES = sorted(PACKAGE.rglob("*.py"))
 BARRED = ["type", "typing", "typing_extensions", "enum", "Enum", "IntEnum", "StrEnum", "Flag", "IntFlag", "Generic",
           "Protocol", "ABC", "ABCMeta", "namedtuple", "NamedTuple", "TypedDict", "TYPE_CHECKING", "abstractmethod"]
 TEXTS = [(path.name, path.read_text(encoding="utf-8")) for path in FILES]
+BUILTIN_METHODS = """append clear copy count endswith extend find get index insert isalnum isalpha isdigit islower isspace
+    isupper items join keys ljust lower lstrip partition pop remove replace reverse rfind rjust rpartition rsplit rstrip
+    setdefault split splitlines startswith strip update upper values zfill bit_length""".split()
 STATEMENTS = (ast.Global, ast.AsyncFunctionDef, ast.AsyncFor, ast.AsyncWith, ast.Await)
 
 
@@ -58,6 +62,47 @@ class LanguageRules(unittest.TestCase):
                     self.assertFalse(node.id.startswith("_"), (file, node.id))
                 if isinstance(node, ast.BinOp):
                     self.assertNotIsInstance(node.op, ast.Div, file)
+
+    def all_nodes(self, kind):
+        for file, text in TEXTS:
+            for node in ast.walk(ast.parse(text)):
+                if isinstance(node, kind):
+                    yield file, node
+
+    def test_no_name_is_a_method_and_an_attribute(self):
+        attributes = {node.attr for _, node in self.all_nodes(ast.Attribute) if isinstance(node.ctx, ast.Store)}
+        self.assertEqual(self.methods() & attributes, set())
+
+    def methods(self):
+        return {part.name for _, node in self.all_nodes(ast.ClassDef) for part in node.body
+                if isinstance(part, ast.FunctionDef)}
+
+    def test_calls(self):
+        allowed = self.methods() | set(BUILTIN_METHODS)
+        for file, node in self.all_nodes(ast.Call):
+            if isinstance(node.func, ast.Attribute):
+                self.assertIn(node.func.attr, allowed, file)
+            elif node.func.id in dir(builtins):
+                self.assertFalse(any(isinstance(part, ast.GeneratorExp) for part in node.args), (file, node.lineno))
+
+    def test_local_names(self):
+        for file, text in TEXTS:
+            tree = ast.parse(text)
+            barred = {alias.name for node in tree.body if isinstance(node, ast.ImportFrom) for alias in node.names}
+            barred |= set(dir(builtins)) | {node.name for node in tree.body if isinstance(node, ast.ClassDef)}
+            for node in ast.walk(tree):
+                names = {node.arg} if isinstance(node, ast.arg) else set()
+                if isinstance(node, ast.Name) and isinstance(node.ctx, ast.Store):
+                    names = {node.id}
+                self.assertEqual(names & barred, set(), file)
+
+    def test_each_import_is_used(self):
+        for file, text in TEXTS:
+            tree = ast.parse(text)
+            used = {node.id for node in ast.walk(tree) if isinstance(node, ast.Name)}
+            for node in tree.body:
+                if isinstance(node, ast.ImportFrom):
+                    self.assertEqual({alias.name for alias in node.names} - used, set(), file)
 
 
 if __name__ == "__main__":
