@@ -4,7 +4,7 @@ import random
 import unittest
 
 from by_hand import ALL_SIGNS, NO_SIGN_TEXTS, NUMBERS, PLAIN_OBJECTS
-from forms_by_hand import random_forms, small_forms
+from forms_by_hand import all_fields, random_forms, small_forms
 from townlines.errors import BadForm
 from townlines.forms import Form
 from townlines.items import Field, Mark, Maybe
@@ -18,14 +18,6 @@ RIGHT = ["x", "y", "- -", "\\{", "[{i}]", "{j}", "[{k}[{l}]]", "z", "!", "~"]
 
 def kinds_of(form):
     return {field.name: field.kind for line in form.lines for field in all_fields(line)}
-
-
-def all_fields(row):
-    for item in row:
-        if isinstance(item, Field):
-            yield item
-        elif isinstance(item, Maybe):
-            yield from all_fields(item.parts)
 
 
 class Spelled(unittest.TestCase):
