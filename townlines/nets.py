@@ -111,10 +111,10 @@ def line_added(above, line):
     shift = len(above.chars) + 1
     feed = 1 << shift
     inside = renumbered(line.follow[0], shift)
-    follow = [ways | feed if (above.exits >> at) & 1 else ways for at, ways in enumerate(above.follow)]
     # No line feed is written where nothing stands above; then the walk begins in the line itself.
-    follow[0] = above.follow[0] | (inside if above.exits & START else 0)
-    follow = follow + [inside] + [renumbered(ways, shift) for ways in line.follow[1:]]
+    first = above.follow[0] | (inside if above.exits & START else 0)
+    later = [ways | feed if (above.exits >> at) & 1 else ways for at, ways in enumerate(above.follow)][1:]
+    follow = [first] + later + [inside] + [renumbered(ways, shift) for ways in line.follow[1:]]
     # The exits above remain exits only if this line can be left out.
     earlier = above.exits if line.exits & START else 0
     exits = renumbered(line.exits & ~START, shift) | earlier
