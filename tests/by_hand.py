@@ -91,6 +91,22 @@ def number_of_lists(kind, longest, limit=10 ** 9):
     return len(found)
 
 
+def marked(pair, distance):
+    """The words over two signs with the first one so many signs before the last sign.
+
+    Just `2 ** (distance + 1)` lists of places occur for texts that are not empty.
+    """
+    return Kind.run(pair, 0, None) + Kind.run(pair[0]) + Kind.run(pair, distance, distance)
+
+
+def exactly_1999():
+    """A kind for which 1,999 lists occur, with the one of the empty text: 1 + 1024 + 512 + .. + 4 + 2."""
+    kind = marked("ab", 9)
+    for pair, distance in [("cd", 8), ("ef", 7), ("gh", 6), ("ij", 5), ("kl", 2), ("mn", 1)]:
+        kind = kind | marked(pair, distance)
+    return kind | Kind.run("op", 0, None) + Kind.run("o")
+
+
 def random_kind(draw, signs, alternatives, runs, highest):
     """A kind drawn by `draw`, a random.Random."""
     rows = []

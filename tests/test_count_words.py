@@ -3,26 +3,10 @@
 import random
 import unittest
 
-from by_hand import ALL_SIGNS, PLAIN_OBJECTS, is_word, number_of_lists, random_kind, strings
+from by_hand import ALL_SIGNS, PLAIN_OBJECTS, exactly_1999, is_word, marked, number_of_lists, random_kind, strings
 from townlines.errors import BadNumber, TooLarge
 from townlines.kinds import Kind
 from townlines.signs import Signs
-
-
-def marked(pair, distance):
-    """The words over two signs with the first one so many signs before the last sign.
-
-    Just `2 ** (distance + 1)` lists of places occur for texts that are not empty.
-    """
-    return Kind.run(pair, 0, None) + Kind.run(pair[0]) + Kind.run(pair, distance, distance)
-
-
-def exactly_1999():
-    """A kind for which 1,999 lists occur, with the one of the empty text: 1 + 1024 + 512 + .. + 4 + 2."""
-    kind = marked("ab", 9)
-    for pair, distance in [("cd", 8), ("ef", 7), ("gh", 6), ("ij", 5), ("kl", 2), ("mn", 1)]:
-        kind = kind | marked(pair, distance)
-    return kind | Kind.run("op", 0, None) + Kind.run("o")
 
 
 class Counting(unittest.TestCase):

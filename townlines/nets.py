@@ -5,8 +5,9 @@ compared very often: bit 0 stands for the place -1 (the beginning, before the
 first character), and bit 1 + p for the place p.
 """
 
-# The set that holds the place -1 only.
+# The set that holds the place -1 only, and the one that holds all places.
 START = 1
+EVERYWHERE = -1
 
 FEED = "\n"
 
@@ -129,26 +130,36 @@ def under_each_other(nets):
     return whole
 
 
-def places_in(stand):
-    """Return the places of a set as an ascending list."""
+def indexes_in(stand):
+    """Return the bits of a set as an ascending list of their indexes; the place p has the index 1 + p."""
     found = []
     rest = stand
     while rest:
         lowest = rest & -rest
-        found.append(lowest.bit_length() - 2)
+        found.append(lowest.bit_length() - 1)
+        rest = rest ^ lowest
+    return found
+
+
+def places_in(stand):
+    """Return the places of a set as an ascending list."""
+    return [at - 1 for at in indexes_in(stand)]
+
+
+def together(ways, stand):
+    """Return the union of those sets of the list `ways` whose indexes are in the set `stand`."""
+    found = 0
+    rest = stand
+    while rest:
+        lowest = rest & -rest
+        found = found | ways[lowest.bit_length() - 1]
         rest = rest ^ lowest
     return found
 
 
 def places_after(net, stand):
     """Return the set of the places that can directly follow some place of the set `stand`."""
-    found = 0
-    rest = stand
-    while rest:
-        lowest = rest & -rest
-        found = found | net.follow[lowest.bit_length() - 1]
-        rest = rest ^ lowest
-    return found
+    return together(net.follow, stand)
 
 
 def places_before(net, goal):
@@ -160,9 +171,18 @@ def places_before(net, goal):
     return found
 
 
-def stand_after(net, text):
-    """Return the set of the places at which the beginning of a walk can stand after `text`."""
-    stand = START
+def turned(ways):
+    """Return the list of sets that leads back: each index is in the sets of all indexes that it leads to."""
+    back = [0] * len(ways)
+    for at, targets in enumerate(ways):
+        for target in indexes_in(targets):
+            back[target] = back[target] | (1 << at)
+    return back
+
+
+def stand_from(net, start, text):
+    """Return the set of the places at which walks can stand that go on from the set `start` with `text`."""
+    stand = start
     for char in text:
         stand = places_after(net, stand) & net.stands_for.get(char, 0)
         if stand == 0:
@@ -170,20 +190,30 @@ def stand_after(net, text):
     return stand
 
 
+def stand_after(net, text):
+    """Return the set of the places at which the beginning of a walk can stand after `text`."""
+    return stand_from(net, START, text)
+
+
 def takes(net, text):
     """Tell whether some walk of the net passes one place for each character of `text`."""
     return (stand_after(net, text) & net.exits) != 0
 
 
-def whole_walk_stands(net, text):
+def stands_along(net, text, goal):
     """Return, for each number of characters, the set of the places at which walks that pass `text` stand.
 
-    Only the walks that pass the whole text, up to its end, count.
+    Only the walks that stand at a place of the set `goal` after the whole text count.
     """
     stands = [START]
     for char in text:
         stands.append(places_after(net, stands[-1]) & net.stands_for.get(char, 0))
-    stands[-1] = stands[-1] & net.exits
+    stands[-1] = stands[-1] & goal
     for at in reversed(range(len(text))):
         stands[at] = stands[at] & places_before(net, stands[at + 1])
     return stands
+
+
+def whole_walk_stands(net, text):
+    """Return the stands along the text of the walks that end with it."""
+    return stands_along(net, text, net.exits)
