@@ -56,12 +56,21 @@ def owners(form, text):
     stands = whole_walk_stands(form.net, text)
     if stands[0] == 0:
         raise NoReading()
-    return [[owner for owner, places in form.owner_sets if places & stand] for stand in stands[1:]]
+    return shares_of(form, stands)
 
 
 def sure(form, text):
     """Return a dict of the fields that have the same span in all readings, with their values."""
-    shares = owners(form, text)
+    return sole_values(form, text, owners(form, text))
+
+
+def shares_of(form, stands):
+    """Return, for each stand behind the first one, the owners of its places, ascending."""
+    return [[owner for owner, places in form.owner_sets if places & stand] for stand in stands[1:]]
+
+
+def sole_values(form, text, shares):
+    """Return a dict from names to values of the fields that are the only owners wherever they are owners."""
     found = {}
     for name in form.names():
         spots = [at for at, share in enumerate(shares) if name in share]
@@ -103,7 +112,7 @@ def parted_by_owners(form, ways):
 def first_owner_rows(form, text, most):
     """Return the owners of the first readings of the text, at most `most` of them, in the order of readings."""
     stands = whole_walk_stands(form.net, text)
-    newest = list(first_stand(stands))
+    newest = list(first_stand(stands))[:most]
     levels = []
     for moves in owner_moves(form, stands):
         # Each of the rows so far leads to a reading, so no more of them than `most` are needed.
