@@ -92,8 +92,8 @@ def are_field_names(form, names):
 def name_lists(names):
     """Return all lists of these names in their order: the shorter ones first, then by their indexes."""
     rows = [[]]
-    for at in range(len(names)):
-        rows = rows + [row + [at] for row in rows]
+    for last in range(len(names)):
+        rows = rows + [row + [last] for row in rows]
     return [[names[at] for at in row] for row in sorted(rows, key=row_order)]
 
 

@@ -62,7 +62,7 @@ def is_integer_list(thing, size):
 
 
 def are_close(row, other_row, ways, more):
-    """Tell whether no entry of `other_row` is greater by more than `more` than an entry of `row` whose way leads to it."""
+    """Tell whether each way leads from an entry of `row` to entries of `other_row` that are at most `more` greater."""
     for entry, targets in zip(row, ways):
         if any([other_row[target] > entry + more for target in targets]):
             return False
