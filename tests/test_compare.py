@@ -352,6 +352,18 @@ class WithinCertificate(unittest.TestCase):
             self.assertIs(is_within_certificate(one, other, found + [(0, part)]), part == [0])
             self.assertIs(is_within_certificate(one, other, found + [(part, [0])]), part in (-1, 0, 1) and type(part) is int)
 
+    def test_a_stand_with_a_place_twice_or_beyond_the_last_one(self):
+        one, other = one_field(TWO), one_field(TWO)
+        found = within_certificate(one, other)
+        self.assertEqual(found, [(-1, [-1]), (0, [0]), (1, [1])])
+        for entry in [(1, [0, 0]), (0, [-1, -1]), (1, [1, 1]), (1, [1, 0])]:
+            self.assertIs(is_within_certificate(one, other, found + [entry]), False, entry)
+        marked = Form([[Mark("ab")]])
+        found = within_certificate(marked, other)
+        for place in [2, 3, 10, 10 ** 6]:
+            self.assertIs(is_within_certificate(marked, other, found + [(0, [place])]), False)
+            self.assertIs(is_within_certificate(marked, other, found + [(place, [0])]), False)
+
     def test_an_empty_stand(self):
         one, other = Form([[Mark("a"), Maybe([Field("x", ONE)])]]), one_field(FREE)
         found = within_certificate(one, other)

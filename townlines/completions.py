@@ -17,6 +17,6 @@ def told_so_far(form, text):
     # A field that can go on behind the text has another span in some longer text.
     ways = places_after(form.net, stands[-1])
     for owner, places in form.owner_sets:
-        if owner in found and places & stands[-1] and places & ways:
+        if owner in found and places & ways:
             del found[owner]
     return found
