@@ -248,37 +248,38 @@ def small_forms():
     return forms
 
 
-def random_row(draw, names, deep):
+def random_row(draw, names, deep, signs):
     """A row of items drawn by `draw`, with one field of the list `names` or more, which are taken out of it."""
     row = []
     if deep or draw.random() < 0.6:
-        row.append(random_field(draw, names))
+        row.append(random_field(draw, names, signs))
     for _ in range(draw.randint(0, 2)):
         choice = draw.random()
         if choice < 0.35:
-            row.append(Mark("".join(draw.choice("ab") for _ in range(draw.randint(1, 2)))))
+            row.append(Mark("".join(draw.choice(signs) for _ in range(draw.randint(1, 2)))))
         elif choice < 0.6 and names:
-            row.append(random_field(draw, names))
+            row.append(random_field(draw, names, signs))
         elif deep < 3 and names:
-            row.append(Maybe(random_row(draw, names, deep + 1)))
+            row.append(Maybe(random_row(draw, names, deep + 1, signs)))
     draw.shuffle(row)
-    return row or [Mark(draw.choice("ab"))]
+    return row or [Mark(draw.choice(signs))]
 
 
-def random_field(draw, names):
+def random_field(draw, names, signs):
+    most = 2 if len(signs) == 2 else 3
     while True:
-        kind = random_kind(draw, "ab", 2, 2, 2)
+        kind = random_kind(draw, signs, most, most, most)
         if not kind.has_empty:
             return Field(names.pop(), kind)
 
 
-def random_form(draw):
-    """A form of at most three fields over the signs a and b, drawn by `draw`, a random.Random."""
+def random_form(draw, signs="ab"):
+    """A form of at most three fields over these signs, drawn by `draw`, a random.Random."""
     names = ["z", "k", "c"]
     lines = []
     for _ in range(draw.randint(1, 3)):
         if names:
-            row = random_row(draw, names, 0)
+            row = random_row(draw, names, 0, signs)
             lines.append([Maybe(row)] if draw.random() < 0.4 and own_names(row) and is_flat(row) else row)
     return Form(lines)
 
@@ -288,9 +289,9 @@ def is_flat(row):
     return not any(isinstance(item, Maybe) for item in row)
 
 
-def random_forms(seed, number):
+def random_forms(seed, number, signs="ab"):
     draw = random.Random(seed)
-    return [random_form(draw) for _ in range(number)]
+    return [random_form(draw, signs) for _ in range(number)]
 
 
 # What no text is (point 3).

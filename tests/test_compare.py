@@ -98,6 +98,36 @@ class AllShortTexts(unittest.TestCase):
         self.assertIs(parted(Form([[Field("a", ONE), Mark("b")]]), Form([[Field("a", Kind.words(["a"])), Mark("b")]])), None)
 
 
+class FourSigns(unittest.TestCase):
+    """Larger kinds over the signs a to d, against sets of places."""
+
+    def outcome(self, call):
+        try:
+            return call()
+        except TooLarge:
+            return "too large"
+
+    def test_both_beyond_and_parted(self):
+        draw = random.Random(46)
+        forms = random_forms(45, 60, "abcd")
+        seen = {}
+        for _ in range(160):
+            one, other = draw.choice(forms), draw.choice(forms)
+            two = Two(one, other)
+            case = (one.spelled(), other.spelled())
+            self.assertEqual(both(one, other), two.both(), case)
+            text, number = two.beyond()
+            found = self.outcome(lambda: beyond(one, other))
+            self.assertEqual(found, "too large" if number > 2000 else text, case)
+            if text is None and number <= 2000:
+                self.assertEqual(within_certificate(one, other), two.certificate(), case)
+            split, number = two.parted_text()
+            found = self.outcome(lambda: parted(one, other))
+            self.assertEqual(found and (found if number > 2000 else found[0]), "too large" if number > 2000 else split, case)
+            seen[text is None, split is None] = True
+        self.assertEqual(len(seen), 3)
+
+
 class Ordinary(unittest.TestCase):
     def test_examples(self):
         one = Form.parse("{a}", {"a": Kind.run("ab", 1, 2)})

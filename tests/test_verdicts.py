@@ -101,6 +101,25 @@ class AllShortTexts(unittest.TestCase):
                     self.assertFalse(any(disagree(row, rows[0][0], name) for name in certain))
 
 
+class FourSigns(unittest.TestCase):
+    """Larger kinds over the signs a to d, against all pairs of places."""
+
+    def test_least_texts(self):
+        seen = {True: 0, False: 0}
+        for form in random_forms(38, 150, "abcd"):
+            steps = Steps(form)
+            result = twice(form)
+            self.assertEqual(result is None, steps.is_single(), form.spelled())
+            if result is not None:
+                self.assertEqual(result[0], steps.least_twice(len(result[0])), form.spelled())
+                self.assertEqual(result[1:], tuple(readings(form, result[0], most=1000)[:2]))
+            for name in form.names():
+                found = unsure(form, name)
+                seen[found is None] += 1
+                self.assertEqual(found and found[0], steps.least_unsure(name, len(found[0]) if found else 5))
+        self.assertGreater(min(seen.values()), 60)
+
+
 class LongForms(unittest.TestCase):
     def test_least_texts(self):
         lengths = set()
