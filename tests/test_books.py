@@ -9,7 +9,7 @@ from forms_by_hand import BAD_TEXTS, FREE, ONE, TWO, random_forms, readings_by_t
 from pairs_by_hand import order
 from townlines.books import Book
 from townlines.compare import both
-from townlines.errors import BadName, BadNumber, BadText, NoForm, NotSingle, TooMany, Unknown
+from townlines.errors import BadName, BadNumber, BadSigns, BadText, NoForm, NotSingle, TooMany, Unknown
 from townlines.forms import Form
 from townlines.items import Field, Mark, Maybe
 from townlines.kinds import Kind
@@ -604,6 +604,18 @@ class KeepSingle(unittest.TestCase):
         self.check(["alba", "dash"])
         self.book.drop("alba")
         self.check(["dash"])
+
+
+class BesideSigns(unittest.TestCase):
+    def test_a_book_is_no_operand(self):
+        for book in [Book(), Book({"a": alba()})]:
+            for call in [lambda: Signs("a") | book, lambda: book | Signs("a"), lambda: Signs("a") & book,
+                         lambda: book & Signs("a"), lambda: Signs("a") - book, lambda: book - Signs("a"),
+                         lambda: Signs("a").within(book), lambda: Signs(book)]:
+                with self.assertRaises(BadSigns):
+                    call()
+            self.assertIs(book in Signs("a"), False)
+            self.assertIs(book in ONE, False)
 
 
 class Interface(unittest.TestCase):

@@ -55,9 +55,13 @@ def is_within_certificate(one, other, thing):
     if not isinstance(thing, list) or not all([is_entry(entry, last, other_last) for entry in thing]):
         return False
     given = {}
+    # The same stand comes with many places.
+    sets = {}
     for place, stand in thing:
-        places = set_of(stand)
-        given[places] = given.get(places, 0) | (1 << (1 + place))
+        key = tuple(stand)
+        if key not in sets:
+            sets[key] = sum([1 << (1 + other_place) for other_place in stand])
+        given[sets[key]] = given.get(sets[key], 0) | (1 << (1 + place))
     return is_closed(Chase(one.net, other.net), given)
 
 
@@ -66,13 +70,15 @@ def is_entry(thing, last, other_last):
     if not isinstance(thing, tuple) or len(thing) != 2:
         return False
     place, stand = thing
-    if not is_integer_within(place, -1, last) or not isinstance(stand, list):
-        return False
-    if not all([is_integer_within(other, -1, other_last) for other in stand]):
-        return False
-    return all([low < high for low, high in zip(stand, stand[1:])])
+    return is_integer_within(place, -1, last) and is_stand(stand, other_last)
 
 
-def set_of(stand):
-    """Return a list of places as a set."""
-    return sum([1 << (1 + place) for place in stand])
+def is_stand(thing, last):
+    """Tell whether `thing` is an ascending list of places up to `last`."""
+    if not isinstance(thing, list) or not all([isinstance(place, int) for place in thing]):
+        return False
+    if any([isinstance(place, bool) for place in thing]):
+        return False
+    if not all([low < high for low, high in zip(thing, thing[1:])]):
+        return False
+    return len(thing) == 0 or (thing[0] >= -1 and thing[-1] <= last)
