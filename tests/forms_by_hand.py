@@ -178,6 +178,7 @@ class Walks:
         for walk in walks:
             for one, two in zip((-1, *walk), walk):
                 self.after[one].add(two)
+        self.before = {place: {one for one, targets in self.after.items() if place in targets} for place in self.after}
         self.lasts = {walk[-1] for walk in walks if walk}
         self.may_be_empty = () in walks
 

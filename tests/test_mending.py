@@ -1,6 +1,9 @@
 """Points 55 to 57: slips, mended, slips_certificate and is_slips_certificate."""
 
+import heapq
+import pathlib
 import random
+import sys
 import time
 import unittest
 
@@ -58,6 +61,52 @@ def table_by_hand(form, text):
     table = [[known[at, place] for place in range(-1, size)] for at in range(len(text) + 1)]
     ending = [place for place in range(-1, size) if place in found.lasts or (place == -1 and found.may_be_empty)]
     return min(table[-1][1 + place] for place in ending), table
+
+
+def mended_by_hand(form, text):
+    """Point 55: from the end of the text on, the least of what each place can still turn its rest into."""
+    found = Walks(form)
+    waiting = [(0, 0, "", len(text), place) for place in found.lasts | ({-1} if found.may_be_empty else set())]
+    heapq.heapify(waiting)
+    known = set()
+    while waiting:
+        number, length, rest, at, place = heapq.heappop(waiting)
+        if (at, place) in known:
+            continue
+        known.add((at, place))
+        if (at, place) == (0, -1):
+            return number, rest
+        if at > 0:
+            heapq.heappush(waiting, (number + 1, length, rest, at - 1, place))
+        if place == -1:
+            continue
+        chars = found.places[place][1]
+        for source in found.before[place]:
+            heapq.heappush(waiting, (number + 1, length + 1, min(chars) + rest, at, source))
+            if at > 0:
+                heapq.heappush(waiting, (number + 1, length + 1, min(chars) + rest, at - 1, source))
+                if text[at - 1] in chars:
+                    heapq.heappush(waiting, (number, length + 1, text[at - 1] + rest, at - 1, source))
+
+
+def lines_run(call, form, text):
+    """How many lines of the package a call runs: its work, told without a clock."""
+    passed = [0]
+    package = str(pathlib.Path(module.__file__).parent)
+
+    def trace(frame, event, argument):
+        if not frame.f_code.co_filename.startswith(package):
+            return None
+        passed[0] += event == "line"
+        return trace
+
+    earlier = sys.gettrace()
+    sys.settrace(trace)
+    try:
+        call(form, text)
+    finally:
+        sys.settrace(earlier)
+    return passed[0]
 
 
 def judged(form, text, number, table):
@@ -181,6 +230,69 @@ class Ordinary(unittest.TestCase):
                 self.assertEqual(certificate[0], number)
                 self.assertIs(is_slips_certificate(form, text, certificate), True)
                 self.assertLess(time.monotonic() - before, 20)
+
+
+class LongTexts(unittest.TestCase):
+    """Texts of up to 400 characters, whose places may need numbers of changes that are far apart."""
+
+    ROAD = Form([[Field("road", Kind.run("a", 1, None))]])
+
+    def check(self, form, text):
+        number, table = table_by_hand(form, text)
+        self.assertEqual(slips_certificate(form, text), (number, table), (form.spelled(), text))
+        self.assertEqual(slips(form, text), number)
+        self.assertEqual(mended(form, text), mended_by_hand(form, text), (form.spelled(), text))
+
+    def test_one_run_without_a_bound(self):
+        for size in [1, 2, 3, 7, 50, 199, 398, 399]:
+            table = [[0, 1], *([at, 0] for at in range(1, size + 1))]
+            self.assertEqual(slips(self.ROAD, "a" * size), 0)
+            self.assertEqual(mended(self.ROAD, "a" * size), (0, "a" * size))
+            self.assertEqual(slips_certificate(self.ROAD, "a" * size), (0, table))
+            self.assertEqual(slips(self.ROAD, "a" * size + "\n"), 1)
+            self.assertEqual(mended(self.ROAD, "a" * size + "\n"), (1, "a" * size))
+            self.assertEqual(slips_certificate(self.ROAD, "a" * size + "\n"), (1, [*table, [size + 1, 1]]))
+            self.assertEqual(mended(self.ROAD, "\n" + "a" * size), (1, "a" * size))
+            self.assertEqual(slips_certificate(self.ROAD, "\n" + "a" * size),
+                             (1, [[0, 1], *([at, 1] for at in range(1, size + 2))]))
+            self.assertEqual(slips(self.ROAD, "b" * size), size)
+            self.assertEqual(mended(self.ROAD, "b" * size), (size, "a"))
+            self.assertEqual(slips_certificate(self.ROAD, "b" * size),
+                             (size, [[0, 1], *([at, at] for at in range(1, size + 1))]))
+        self.assertEqual([slips(self.ROAD, text) for text in ["a" * 400, "a" * 399 + "\n", "b" * 400]], [0, 1, 400])
+        self.assertEqual([mended(self.ROAD, text) for text in ["a" * 400, "a" * 399 + "\n", "b" * 400]],
+                         [(0, "a" * 400), (1, "a" * 399), (400, "a")])
+        for text in ["a" * 400, "a" * 399 + "\n", "b" * 400, "a" * 200 + "b" + "a" * 199, "ab" * 200]:
+            self.check(self.ROAD, text)
+
+    def test_places_before_and_behind_long_values(self):
+        kinds = {"p": Kind.run("a", 1, None), "q": Kind.run("ab", 1, None), "r": Kind.run("b", 1, 3)}
+        for spelling in ["{p}b", "b{p}", "b{p}bb", "{p}\n{q}", "[{r}b]{p}", "{p}[b{r}]", "[{r}]\n{p}\n[{q}]",
+                         "{p}c{q}c{r}"]:
+            form = Form.parse(spelling, kinds)
+            for text in ["a" * 400, "a" * 399 + "b", "b" * 3 + "a" * 100, "a" * 150 + "\n" + "a" * 150, "\n" * 60,
+                         "b" * 40 + "a" * 40 + "b" * 40, "a" * 60 + "c" + "a" * 60 + "c" + "b" * 60]:
+                self.check(form, text)
+
+    def test_drawn_texts(self):
+        draw = random.Random(59)
+        for form in [*FORMS[::4], *random_forms(60, 60, "abc")]:
+            base = "".join(draw.choice("ab\n") for _ in range(draw.randint(1, 4))) * 20
+            for _ in range(draw.randint(0, 3)):
+                at = draw.randint(0, len(base))
+                base = base[:at] + draw.choice("abc\n") + base[at + draw.randint(0, 1):]
+            self.check(form, base)
+            self.check(form, "".join(draw.choice("abc\n") for _ in range(draw.randint(20, 60))))
+
+    def test_the_work_grows_with_the_text_and_not_with_its_square(self):
+        sink = Form([[Mark("b"), Field("road", Kind.run("a", 1, None)), Mark("b")]])
+        for form in [self.ROAD, sink]:
+            for call in [slips, mended, slips_certificate]:
+                for front, behind in [("", ""), ("", "\n"), ("\n", ""), ("", "\n" + "a" * 50)]:
+                    one, two = [front + "a" * (size - len(front + behind)) + behind for size in (200, 400)]
+                    runs = [lines_run(call, form, text) for text in (one, two)]
+                    self.assertGreater(runs[0], 200)
+                    self.assertLess(runs[1], 2.2 * runs[0], (form.spelled(), call, one))
 
 
 class IsSlipsCertificate(unittest.TestCase):

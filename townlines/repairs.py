@@ -1,114 +1,149 @@
 """The least text into which the fewest changes turn a text.
 
 While a text is turned into another one, a state tells how many of its
-characters are done, at which place the walk of the other text stands, and how
-many changes were made. A level is a dict from tuples (characters, changes) to
-sets of places. Some changes and characters kept are called a step if they
-write one character of the other text; removals write none.
+characters are done and at which place the walk of the other text stands. From
+there the other text needs a number of changes to its end, and then a number of
+characters; both together are the cost of the state: CHANGE for each change and
+1 for each character, so that the fewest changes come first. Some changes and
+characters kept are called a step if they write one character of the other
+text; removals write none. A way is best if each of its states has just the
+cost that is left.
+
+A row tells the costs for all places after so many characters: a dict from
+costs, in ascending order, to sets of places. A level is a dict from tuples
+(characters done, cost) to sets of places.
 """
 
-from townlines.edits import add_places, fewest, rows_from_start, rows_to_end
-from townlines.nets import START, places_in, together, turned
+from townlines.edits import Ways, add_places, fewest
+from townlines.nets import START, places_in, turned
+
+# No text to which best ways lead has so many characters: they make at most 400 changes in a text of at most 400.
+CHANGE = 1000
 
 
 class Repair:
     """The best ways to turn a text into one that a net passes.
 
-    `number` is the fewest changes, `best` the level of the states on the ways
-    with so many changes, and `back` has the ways of the net backwards.
+    `number` is the fewest changes, and `length` the number of characters of
+    the least text. `rows` has the row for each number of characters done, and
+    an empty one behind them; `fewest_left` has for each of the others the
+    fewest changes that are left at some place.
     """
 
     def __init__(self, net, text):
         self.net = net
         self.text = text
-        self.back = turned(net.follow)
-        rows = rows_from_start(net, text)
-        self.number = fewest(rows[-1], net.exits)
-        self.best = shared_states(rows, rows_to_end(net, self.back, text), self.number)
+        self.ways = Ways(net.follow)
+        rows = rows_to_end(net, text)
+        self.fewest_left = [min(list(row)) // CHANGE for row in rows]
+        self.rows = rows + [{}]
+        self.cost = fewest(rows[0], START)
+        self.number = self.cost // CHANGE
+        self.length = self.cost % CHANGE
 
 
-def shared_states(rows, other_rows, number):
-    """Return the level of the states whose changes so far and to the end are `number` together."""
-    best = {}
-    for at, row in enumerate(rows):
-        for changes, places in row.items():
-            add_places(best, (at, changes), places & other_rows[at].get(number - changes, 0))
-    return best
+def rows_to_end(net, text):
+    """Return the row for each number of characters done."""
+    back = Ways(turned(net.follow))
+    rows = [with_insertions(back, {0: net.exits})]
+    for char in text[::-1]:
+        rows.append(row_before(back, rows[-1], net.stands_for.get(char, 0)))
+    return rows[::-1]
 
 
-def add_best(repair, level, key, places):
-    """Put those of the places into the level that are on best ways."""
-    add_places(level, key, places & repair.best.get(key, 0))
-
-
-def before_step(repair, level):
-    """Return the states from which one step leads to the states of the level."""
+def row_before(back, row, fitting):
+    """Return the row for one character less done; the places that stand for this character are `fitting`."""
     found = {}
-    for (at, changes), places in level.items():
-        sources = together(repair.back, places)
-        add_best(repair, found, (at, changes - 1), sources)
-        add_best(repair, found, (at - 1, changes - 1), sources)
-        if at > 0:
-            kept = places & repair.net.stands_for.get(repair.text[at - 1], 0)
-            add_best(repair, found, (at - 1, changes), together(repair.back, kept))
-    return found
+    for cost, places in row.items():
+        add_places(found, cost + 1, back.targets_of(places & fitting))
+        add_places(found, cost + CHANGE, places)
+        add_places(found, cost + CHANGE + 1, back.targets_of(places))
+    return with_insertions(back, found)
 
 
-def with_removals(repair, level, shift):
-    """Return the level with the states to which removals lead: on from its states, or back for the shift -1."""
+def with_insertions(back, costs):
+    """Return the row in which each place has its least cost: one of `costs`, or one for which insertions come first."""
+    row = {}
+    known = 0
+    waiting = dict(costs)
+    given = sorted(list(costs), reverse=True)
+    added = []
+    while len(given) > 0 or len(added) > 0:
+        cost = take_least(given, added)
+        places = waiting[cost] & ~known
+        add_places(row, cost, places)
+        known = known | places
+        sources = back.targets_of(places) & ~known
+        longer = cost + CHANGE + 1
+        if sources and longer not in waiting:
+            added.append(longer)
+        add_places(waiting, longer, sources)
+    return row
+
+
+def take_least(given, added):
+    """Remove the least cost from the list that it ends, or from the list that it begins, and return it."""
+    if len(added) == 0 or (len(given) > 0 and given[-1] < added[0]):
+        return given.pop()
+    return added.pop(0)
+
+
+def with_removals(repair, level):
+    """Return the level with the states to which removals lead from its states."""
     found = {}
     waiting = list(level.items())
     while len(waiting) > 0:
         key, places = waiting.pop()
         fresh = places & ~found.get(key, 0)
         add_places(found, key, fresh)
-        at, changes = key
-        target = (at + shift, changes + shift)
-        if fresh & repair.best.get(target, 0):
-            waiting.append((target, fresh & repair.best[target]))
+        at, cost = key
+        removed = fresh & repair.rows[at + 1].get(cost - CHANGE, 0)
+        if removed:
+            waiting.append(((at + 1, cost - CHANGE), removed))
     return found
 
 
-def goals_by_rest(repair):
-    """Return the levels of the states from which just 0, 1, 2 .. steps, and not fewer, lead to the end."""
-    end = (len(repair.text), repair.number)
-    level = with_removals(repair, {end: repair.best[end] & repair.net.exits}, -1)
-    known = {key: places for key, places in level.items()}
-    levels = [level]
-    while (known.get((0, 0), 0) & START) == 0:
-        sources = without(before_step(repair, level), known)
-        level = without(with_removals(repair, sources, -1), known)
-        for key, places in level.items():
-            add_places(known, key, places)
-        levels.append(level)
-    return levels
+def kept_next(repair, level):
+    """Return characters of the text that all best ways from the level keep next, or "" if none are found.
+
+    A change leads to a state with one change less left, so there is none as
+    long as no place has fewer changes left than the level.
+    """
+    if len(level) > 1:
+        return ""
+    at, cost = list(level)[0]
+    left = [cost // CHANGE] * 2
+    stop = at
+    while repair.fewest_left[stop:stop + 2] == left:
+        stop = stop + 1
+    return repair.text[at:stop]
 
 
-def without(level, known):
-    """Return the states of the level that are not known."""
-    return {key: places & ~known.get(key, 0) for key, places in level.items() if places & ~known.get(key, 0)}
+def level_behind(repair, level, kept):
+    """Return the level to which best ways lead from the only states of the level when they keep the characters."""
+    (at, cost), places = list(level.items())[0]
+    for char in kept:
+        places = repair.ways.targets_of(places) & repair.net.stands_for[char]
+    key = (at + len(kept), cost - len(kept))
+    return {key: places & repair.rows[key[0]][key[1]]}
 
 
-def within(level, goal):
-    """Return the states of the level that are among the goals."""
-    return {key: places & goal[key] for key, places in level.items() if places & goal.get(key, 0)}
-
-
-def steps_to(repair, level, goal):
-    """Return tuples (character, key, places) of the goals to which one step leads from the states of the level.
+def steps_from(repair, level):
+    """Return tuples (character, key, places) of the states to which one step leads from the states of the level.
 
     The character is the one of the text that is kept, or "" if the step may
     write each character that the places stand for.
     """
     found = []
-    for (at, changes), places in level.items():
-        ways = together(repair.net.follow, places)
-        if at < len(repair.text):
-            char = repair.text[at]
-            found.append((char, (at + 1, changes), ways & repair.net.stands_for.get(char, 0)))
-            found.append(("", (at + 1, changes + 1), ways))
-        found.append(("", (at, changes + 1), ways))
-    return [(char, key, ways & goal[key]) for char, key, ways in found if ways & goal.get(key, 0)]
+    for (at, cost), places in level.items():
+        targets = repair.ways.targets_of(places)
+        char = repair.text[at:at + 1]
+        fitting = targets & repair.net.stands_for.get(char, 0)
+        found.append((char, (at + 1, cost - 1), fitting))
+        found.append(("", (at + 1, cost - CHANGE - 1), targets))
+        found.append(("", (at, cost - CHANGE - 1), targets))
+    best = [(char, key, places & repair.rows[key[0]].get(key[1], 0)) for char, key, places in found]
+    return [(char, key, places) for char, key, places in best if places]
 
 
 def least_char(repair, char, places):
@@ -131,12 +166,16 @@ def states_with(repair, steps, char):
 
 def repaired(repair):
     """Return the least text into which the fewest changes turn the text."""
-    levels = goals_by_rest(repair)
-    level = within(with_removals(repair, {(0, 0): START}, 1), levels[-1])
-    chars = []
-    for goal in reversed(list(levels[:-1])):
-        steps = steps_to(repair, level, goal)
-        least = min([least_char(repair, char, places) for char, key, places in steps])
-        level = within(with_removals(repair, states_with(repair, steps, least), 1), goal)
-        chars.append(least)
-    return "".join(chars)
+    result = ""
+    level = {(0, repair.cost): START}
+    while len(result) < repair.length:
+        level = with_removals(repair, level)
+        more = kept_next(repair, level)
+        if more != "":
+            level = level_behind(repair, level, more)
+        else:
+            steps = steps_from(repair, level)
+            more = min([least_char(repair, char, places) for char, key, places in steps])
+            level = states_with(repair, steps, more)
+        result = result + more
+    return result
